@@ -1,0 +1,49 @@
+// Package herald: deliveries by small programs: see DOC.md.
+package herald
+
+import (
+	"herald/api"
+	"herald/script"
+)
+
+// Herald is some runs of one program, and the devices' queues.
+type Herald struct{}
+
+// Longest tells how many ticks a run of a text can take; with an error, the place (P3, P4).
+func Longest(text string) (int, api.Errno, int) {
+	program, fault, place := script.Read(text)
+	return program.Longest, fault, place
+}
+
+// Compile makes code of a text; with an error, the place (P3, P12).
+func Compile(text string) ([]api.Instr, api.Errno, int) {
+	_, fault, place := script.Read(text)
+	return nil, fault, place
+}
+
+// New begins with some code (P5).
+func New(code []api.Instr) (*Herald, api.Errno) { return nil, api.OK }
+
+// Show tells the time, the runs and the queues (P6).
+func (h *Herald) Show() api.State { return api.State{} }
+
+// Trigger begins a run (P7).
+func (h *Herald) Trigger(device int) (int, api.Errno) { return 0, api.OK }
+
+// Tick lets time go by (P8).
+func (h *Herald) Tick(n int) api.Errno { return api.OK }
+
+// Ack answers a message (P9).
+func (h *Herald) Ack(run int, number int) api.Errno { return api.OK }
+
+// Cancel ends a run (P9).
+func (h *Herald) Cancel(run int) api.Errno { return api.OK }
+
+// Drain takes the first message of a device's queue (P9).
+func (h *Herald) Drain(device int) (api.Message, api.Errno) { return api.Message{}, api.OK }
+
+// Journal tells what has been done so far (P10).
+func (h *Herald) Journal() string { return "" }
+
+// Open begins with some code, and does again what a journal tells; how many of its records (P11).
+func Open(code []api.Instr, journal string) (*Herald, int, api.Errno) { return nil, 0, api.OK }
