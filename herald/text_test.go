@@ -49,6 +49,21 @@ func nested(head string, times int) string {
 	return strings.Repeat(head, times) + strings.Repeat("}", times)
 }
 
+func TestDocumentsExamples(t *testing.T) {
+	checkLongest(t, "P4, example 1", []longestCase{
+		{"send a wait 5 ask b 10 { send c } else { wait 3 }", 18}, {"ask a 1 { wait 5 }", 5},
+		{"retry 3 a 4 { } else { wait 1 }", 29}, {"repeat 3 { wait 2 ask a 4 { stop } }", 18}, {"stop wait 9", 0}, {"", 0},
+	})
+	checkFaults(t, "P3, examples 2 to 4", []faultCase{
+		{"send", api.ErrForm, 4}, {"send i", api.ErrForm, 5}, {"wait 12345", api.ErrForm, 5}, {"wait 0", api.ErrNumber, 5},
+		{"ask a 5", api.ErrForm, 7}, {"ask a 5 { } else", api.ErrForm, 16}, {"} send a", api.ErrForm, 0},
+		{"wait 5 else { }", api.ErrForm, 7}, {"repeat 9 { repeat 9 { } }", api.ErrHeavy, 11}, {"repeat 8{repeat 8{}}", api.OK, 0},
+		{"retry 7 a 1 { }", api.ErrNumber, 6},
+		{"repeat 1 { repeat 1 { repeat 1 { repeat 1 { repeat 1 { } } } } }", api.ErrDeep, 53},
+		{"repeat 9 { repeat 7 { retry 6 a 999 { } } }", api.ErrSlow, 0},
+	})
+}
+
 func TestLongestOfPlainStatements(t *testing.T) {
 	checkLongest(t, "P4", []longestCase{
 		{"", 0}, {" \n \n", 0}, {"send a", 0}, {"stop", 0},
