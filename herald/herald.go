@@ -3,11 +3,14 @@ package herald
 
 import (
 	"herald/api"
+	"herald/machine"
 	"herald/script"
 )
 
 // Herald is some runs of one program, and the devices' queues.
-type Herald struct{}
+type Herald struct {
+	machine machine.Machine
+}
 
 // Longest tells how many ticks a run of a text can take; with an error, the place (P3, P4).
 func Longest(text string) (int, api.Errno, int) {
@@ -22,25 +25,43 @@ func Compile(text string) ([]api.Instr, api.Errno, int) {
 }
 
 // New begins with some code (P5).
-func New(code []api.Instr) (*Herald, api.Errno) { return nil, api.OK }
+func New(code []api.Instr) (*Herald, api.Errno) {
+	begun, fault := machine.New(code)
+	if fault != api.OK {
+		return nil, fault
+	}
+	return &Herald{machine: begun}, api.OK
+}
 
 // Show tells the time, the runs and the queues (P6).
-func (h *Herald) Show() api.State { return api.State{} }
+func (h *Herald) Show() api.State {
+	return h.machine.Show()
+}
 
 // Trigger begins a run (P7).
-func (h *Herald) Trigger(device int) (int, api.Errno) { return 0, api.OK }
+func (h *Herald) Trigger(device int) (int, api.Errno) {
+	return h.machine.Trigger(device)
+}
 
 // Tick lets time go by (P8).
-func (h *Herald) Tick(n int) api.Errno { return api.OK }
+func (h *Herald) Tick(n int) api.Errno {
+	return h.machine.Tick(n)
+}
 
 // Ack answers a message (P9).
-func (h *Herald) Ack(run int, number int) api.Errno { return api.OK }
+func (h *Herald) Ack(run int, number int) api.Errno {
+	return h.machine.Ack(run, number)
+}
 
 // Cancel ends a run (P9).
-func (h *Herald) Cancel(run int) api.Errno { return api.OK }
+func (h *Herald) Cancel(run int) api.Errno {
+	return h.machine.Cancel(run)
+}
 
 // Drain takes the first message of a device's queue (P9).
-func (h *Herald) Drain(device int) (api.Message, api.Errno) { return api.Message{}, api.OK }
+func (h *Herald) Drain(device int) (api.Message, api.Errno) {
+	return h.machine.Drain(device)
+}
 
 // Journal tells what has been done so far (P10).
 func (h *Herald) Journal() string { return "" }
