@@ -53,6 +53,9 @@ func TestTextsEndWithoutPanic(t *testing.T) {
 		if compileFault != fault || compilePlace != place || fault != api.OK && len(code) != 0 {
 			t.Errorf("P1: Compile(%.60q) = %v, %d, %d, and Longest says %d, %d", text, code, compileFault, compilePlace, fault, place)
 		}
+		if h, fault := herald.New(code); h == nil || fault != api.OK {
+			t.Errorf("P12: Compile(%.60q) = %v, which is not sound", text, code)
+		}
 	}
 }
 

@@ -3,6 +3,7 @@ package herald
 
 import (
 	"herald/api"
+	"herald/compile"
 	"herald/machine"
 	"herald/script"
 )
@@ -20,8 +21,12 @@ func Longest(text string) (int, api.Errno, int) {
 
 // Compile makes code of a text; with an error, the place (P3, P12).
 func Compile(text string) ([]api.Instr, api.Errno, int) {
-	_, fault, place := script.Read(text)
-	return nil, fault, place
+	program, fault, place := script.Read(text)
+	if fault != api.OK {
+		return nil, fault, place
+	}
+	code := compile.Code(program)
+	return code, api.OK, 0
 }
 
 // New begins with some code (P5).

@@ -151,6 +151,48 @@ func TestShownListsAreTheCallers(t *testing.T) {
 	}
 }
 
+// spoilCode writes into code that came out, and into its spare room.
+func spoilCode(list code) {
+	whole := list[:cap(list)]
+	for i := range whole {
+		whole[i] = api.Instr{Op: 99, A: -1, B: -1, C: -1}
+	}
+}
+
+// Of one text there is one code, whatever is compiled in between and written into what came out; and that changes no code that came out sooner.
+func TestCompiledCodeIsTheCallers(t *testing.T) {
+	chance := rand.New(rand.NewSource(10))
+	var texts []string
+	var kept, copies []code
+	for i := 0; i < 500; i++ {
+		text := goodText(chance)
+		spoilCode(compiled(t, text))
+		texts = append(texts, text)
+		kept = append(kept, compiled(t, text))
+		copies = append(copies, slices.Clone(kept[i]))
+		spoilCode(compiled(t, text))
+		spoilCode(compiled(t, texts[chance.Intn(len(texts))]))
+	}
+	for i := len(texts) - 1; i >= 0; i-- {
+		if !slices.Equal(kept[i], copies[i]) || !slices.Equal(compiled(t, texts[i]), copies[i]) {
+			t.Fatalf("P2: the code of %q was %v, and became %v, and is %v", texts[i], copies[i], kept[i], compiled(t, texts[i]))
+		}
+		spoilCode(kept[i])
+	}
+}
+
+func TestCompiledCodeIsNotKept(t *testing.T) {
+	text := "send a wait 3 repeat 2 { send b wait 4 }"
+	list := compiled(t, text)
+	d := begin(t, list...)
+	d.trigger(0, 1)
+	spoilCode(list)
+	d.tick(3)
+	d.shows(3, []api.Run{run(1, 0, 2, 7, 0)}, msg(0, 1, 1, 0), msg(0, 1, 2, 1))
+	d.trigger(1, 2)
+	d.shows(3, []api.Run{run(1, 0, 2, 7, 0), run(2, 1, 1, 6, 0)}, msg(0, 1, 1, 0), msg(0, 1, 2, 1), msg(1, 2, 1, 0))
+}
+
 // Heralds know nothing of one another, even if they are of the same code.
 func TestHeraldsStandAlone(t *testing.T) {
 	list := code{send(0), send(1), wait(5), send(2), wait(5)}

@@ -10,9 +10,10 @@ import (
 	"herald/herald"
 )
 
-// A model does what the document says in another way than the program: tick by tick, with all messages in one list, and all runs ever begun in another.
+// A model does what the document says in another way than the program: tick by tick, with all messages in one list, and all runs ever begun in another. Its runs are of a text, if it has one, else of code.
 type model struct {
 	code  code
+	text  *point
 	now   int
 	runs  []*modelRun
 	posts []api.Message
@@ -22,6 +23,7 @@ type modelRun struct {
 	id, device, sent, until, number int
 	at                              int // the instruction at which it stopped
 	registers                       map[int]int
+	answered, without               *point // what a run of a text does then, if it is answered, and if not
 	ended                           bool
 }
 
@@ -122,13 +124,30 @@ func (m *model) goOn(r *modelRun, at int) {
 	}
 }
 
-// behindStop tells where a stopped run goes on.
-func (m *model) behindStop(r *modelRun, answered bool) int {
+func (m *model) begin(r *modelRun) {
+	if m.text != nil {
+		m.goOnText(r, m.text)
+		return
+	}
+	m.goOn(r, 0)
+}
+
+// resume lets a stopped run go on.
+func (m *model) resume(r *modelRun, answered bool) {
+	if m.text != nil {
+		next := r.without
+		if answered {
+			next = r.answered
+		}
+		m.goOnText(r, next)
+		return
+	}
 	i := m.code[r.at]
 	if i.Op == api.Ask && !answered || i.Op == api.Hold && answered {
-		return i.C
+		m.goOn(r, i.C)
+		return
 	}
-	return r.at + 1
+	m.goOn(r, r.at+1)
 }
 
 func (m *model) trigger(device int) (int, api.Errno) {
@@ -140,7 +159,7 @@ func (m *model) trigger(device int) (int, api.Errno) {
 	}
 	r := &modelRun{id: len(m.runs) + 1, device: device, registers: map[int]int{}}
 	m.runs = append(m.runs, r)
-	m.goOn(r, 0)
+	m.begin(r)
 	return r.id, api.OK
 }
 
@@ -156,7 +175,7 @@ func (m *model) tick(n int) api.Errno {
 			}
 			id, number := r.id, r.number
 			m.drop(func(p api.Message) bool { return p.Run == id && p.Number == number })
-			m.goOn(r, m.behindStop(r, false))
+			m.resume(r, false)
 		}
 	}
 	return api.OK
@@ -173,7 +192,7 @@ func (m *model) ack(id, number int) api.Errno {
 	if slices.ContainsFunc(m.posts, func(p api.Message) bool { return p.Run == id && p.Number == number }) {
 		return api.ErrQueue
 	}
-	m.goOn(r, m.behindStop(r, true))
+	m.resume(r, true)
 	return api.OK
 }
 
@@ -300,29 +319,28 @@ func (c call) ofHerald(h *herald.Herald) string {
 	return fmt.Sprint(message, fault)
 }
 
-// compare makes the same calls of both, and tells the first that is answered, or leaves things, otherwise.
-func compare(t *testing.T, chance *rand.Rand, list code, calls int) bool {
-	d := begin(t, list...)
-	m := &model{code: list}
+// compare makes the same calls of both, and tells the first that is answered, or leaves things, otherwise ("": none).
+func compare(chance *rand.Rand, h *herald.Herald, m *model, calls int) string {
 	var made []string
 	for i := 0; i < calls; i++ {
 		c := randomCall(chance, m.show())
 		made = append(made, fmt.Sprintf("%c(%d, %d)", c.name, c.first, c.second))
-		got, want := c.ofHerald(d.h), c.ofModel(m)
-		state, wantState := d.h.Show(), m.show()
+		got, want := c.ofHerald(h), c.ofModel(m)
+		state, wantState := h.Show(), m.show()
 		if got != want || !sameState(state, wantState) {
-			t.Errorf("P5 to P9: code %v, calls %v: %s and %v, want %s and %v", list, made, got, state, want, wantState)
-			return false
+			return fmt.Sprintf("calls %v: %s and %v, want %s and %v", made, got, state, want, wantState)
 		}
 	}
-	return true
+	return ""
 }
 
 func TestAgainstModel(t *testing.T) {
 	chance := rand.New(rand.NewSource(5))
 	for i := 0; i < 4000; i++ {
-		if !compare(t, chance, randomCode(chance), 50) {
-			return
+		list := randomCode(chance)
+		d := begin(t, list...)
+		if difference := compare(chance, d.h, &model{code: list}, 50); difference != "" {
+			t.Fatalf("P5 to P9: code %v, %s", list, difference)
 		}
 	}
 }

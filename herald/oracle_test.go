@@ -3,6 +3,7 @@ package herald_test
 import (
 	"regexp"
 	"strconv"
+	"strings"
 
 	"herald/api"
 )
@@ -136,9 +137,9 @@ func heavyPlace(words []oracleWord) int {
 }
 
 type oracleStatement struct {
-	name         string
-	times, ticks int
-	body, other  []*oracleStatement
+	name              string
+	key, times, ticks int
+	body, other       []*oracleStatement
 }
 
 // statementsOf takes a block off the words' head; its words have the form.
@@ -152,6 +153,7 @@ func statementsOf(words *[]oracleWord) []*oracleStatement {
 		n, _ := strconv.Atoi(next())
 		return n
 	}
+	key := func() int { return strings.Index("abcdefgh", next()) }
 	braced := func() []*oracleStatement {
 		next()
 		list := statementsOf(words)
@@ -164,15 +166,15 @@ func statementsOf(words *[]oracleWord) []*oracleStatement {
 		list = append(list, s)
 		switch s.name {
 		case "send":
-			next()
+			s.key = key()
 		case "wait":
 			s.ticks = number()
 		case "ask":
-			next()
+			s.key = key()
 			s.ticks = number()
 		case "retry":
 			s.times = number()
-			next()
+			s.key = key()
 			s.ticks = number()
 		case "repeat":
 			s.times = number()
